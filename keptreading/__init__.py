@@ -1,0 +1,1 @@
+"""Keptreading: a text read by rules, while both change."""
