@@ -12,12 +12,14 @@ def is_rule(thing):
     return is_name(thing[0]) and is_form(thing[1])
 
 
+def names_rise(rows):
+    return all([rows[k - 1][0] < rows[k][0] for k in range(1, len(rows))])
+
+
 def is_book(thing):
     if not isinstance(thing, list):
         return False
-    if not all([is_rule(row) for row in thing]):
-        return False
-    return all([thing[k - 1][0] < thing[k][0] for k in range(1, len(thing))])
+    return all([is_rule(row) for row in thing]) and names_rise(thing)
 
 
 def may_be_empty(form, empty):

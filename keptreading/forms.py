@@ -1,4 +1,4 @@
-"""Names and forms: what a rule may be called, and how it may read."""
+"""Names, signs and forms: what a rule may be called, what stands in a text, and how a rule may read."""
 
 LETTERS = "abcdefghijklmnopqrstuvwxyz"
 MOST_LETTERS = 8
@@ -25,12 +25,14 @@ def is_sign(sign):
     return " " <= sign <= "~" and ord(sign) != BARRED_SIGN
 
 
+def is_text(thing):
+    return isinstance(thing, str) and all([is_sign(sign) for sign in thing])
+
+
 def are_rising_signs(thing):
-    if not isinstance(thing, str):
+    if not is_text(thing):
         return False
     if not 1 <= len(thing) <= MOST_SIGNS:
-        return False
-    if not all([is_sign(sign) for sign in thing]):
         return False
     return all([thing[k - 1] < thing[k] for k in range(1, len(thing))])
 

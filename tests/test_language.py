@@ -28,6 +28,7 @@ namedtuple NamedTuple TypedDict TYPE_CHECKING abstractmethod""".split()
 BARRED_PIECES = ("dataclass", "overload", "contextmanager")
 BARRED_FILES = ["test", "tests", "testing", "site", "conftest", "sitecustomize", "usercustomize"]
 TWO_UNDERSCORES = ("__init__", "__eq__", "__repr__", "__str__", "__len__")
+FREE_VALUES = "count index title find get join lower upper split strip copy add".split()
 WALKED = ("zip", "enumerate", "reversed", "range", "items", "keys", "values")
 WALKERS = ("list", "tuple", "dict", "sorted", "sum", "any", "all", "enumerate", "zip", "min", "max", "join")
 
@@ -174,6 +175,26 @@ class Language(unittest.TestCase):
                 self.holds(node.attr in METHODS or node.attr in self.methods, code, node, node.attr)
             else:
                 self.holds(node.attr not in METHODS, code, node, node.attr + " is not called")
+
+    def test_own_methods_and_values(self):
+        native = {name for kind in (str, int, list, dict, set, bytes) for name in dir(kind)}
+        for name in self.methods - set(TWO_UNDERSCORES):
+            self.assertTrue(name not in native or name in METHODS + ["add", "discard"], name)
+        for code, node in self.each(ast.Attribute):
+            if isinstance(node.ctx, ast.Store):
+                self.holds(node.attr not in self.methods, code, node, node.attr + " is a method too")
+                self.holds(node.attr not in native or node.attr in FREE_VALUES, code, node, node.attr)
+        for code, owner in self.each(ast.ClassDef):
+            names = [node.name for node in owner.body if isinstance(node, ast.FunctionDef)]
+            self.holds(len(names) == len(set(names)), code, owner, "a method twice")
+
+    def test_locals_are_called_like_nothing_at_the_top(self):
+        for code in self.codes:
+            classes = [node.name for node in code.of(ast.ClassDef)]
+            drawn = [alias.name for node in code.of(ast.ImportFrom) for alias in node.names]
+            names = [node.id for node in code.of(ast.Name) if isinstance(node.ctx, ast.Store)]
+            for name in names + [node.arg for node in code.of(ast.arg)]:
+                self.assertNotIn(name, classes + drawn, code.path.name)
 
     def test_comparisons_by_is(self):
         for code, node in self.each(ast.Compare):

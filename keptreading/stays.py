@@ -1,0 +1,63 @@
+"""Kept rows: which of them stay behind a change, and whether they are right for a book and a text."""
+
+from keptreading.forms import is_name
+from keptreading.readings import is_place, is_whole, make
+
+
+def moved(row, more):
+    number, name, place, length, reach, leans = row
+    return (number, name, place + more, length, reach, list(leans))
+
+
+def by_number(rows):
+    return sorted(rows, key=lambda row: row[0])
+
+
+def behind_put(rows, a, b, many):
+    stay = []
+    for row in rows:
+        place = row[2]
+        if place + row[4] <= a:
+            stay.append(moved(row, 0))
+        elif place >= b:
+            stay.append(moved(row, many - (b - a)))
+    return by_number(stay)
+
+
+def behind_rule(rows, name):
+    return by_number([moved(row, 0) for row in rows if name not in row[5]])
+
+
+def is_row(text, thing):
+    if not isinstance(thing, tuple) or len(thing) != 6:
+        return False
+    number, name, place, length, reach, leans = thing
+    if not is_whole(number) or number < 0 or not is_name(name) or not is_place(text, place):
+        return False
+    if not (length is None or is_whole(length)) or not is_whole(reach):
+        return False
+    return isinstance(leans, list) and all([is_name(leaned) for leaned in leans])
+
+
+def are_unlike(rows):
+    numbers = len(set([row[0] for row in rows]))
+    ones = len(set([(row[1], row[2]) for row in rows]))
+    return numbers == len(rows) and ones == len(rows)
+
+
+def tells(kept, row):
+    length, reach, leans = kept[(row[1], row[2])]
+    return row[3] == length and row[4] == reach and row[5] == sorted(leans)
+
+
+def are_rows(book, text, rows):
+    if not isinstance(rows, list) or not all([is_row(text, row) for row in rows]):
+        return False
+    if not are_unlike(rows):
+        return False
+    kept = {}
+    rules = dict(book)
+    for row in rows:
+        make(rules, text, kept, row[1], row[2])
+    # Made were these and all that they ask: where that is no more than these, each asked one is one of them.
+    return len(kept) == len(rows) and all([tells(kept, row) for row in rows])
