@@ -307,6 +307,8 @@ class ListsAndRefusals(Told):
         for name in ("sum", "others", "end", "digit", "lacking"):
             for place in (0, 1, 6):
                 told = reading(SUMS, name, "1+23+4", place)
+                once_more = reading(SUMS, name, "1+23+4", place)
+                self.assertEqual(len({id(told[2]), id(told[3]), id(once_more[2]), id(once_more[3])}), 4)
                 expected = copy.deepcopy(told)
                 told[2].append(("more", 0))
                 told[3].clear()
