@@ -2,14 +2,18 @@
 
 from keptreading.books import loop, names_rise
 from keptreading.forms import is_form, is_name, is_text
-from keptreading.readings import is_whole, reading
+from keptreading.readings import is_whole, made_alone, reading
+
+
+def paper_of(forms, text, kept, name, place):
+    length, reach, leans = kept[(name, place)]
+    rules = [(leaned, forms.get(leaned)) for leaned in sorted(leans)]
+    return (name, length, reach, text[place:place + reach], place + reach > len(text), rules)
 
 
 def paper(book, name, text, place):
-    length, reach, asked, leans = reading(book, name, text, place)
-    forms = dict(book)
-    rules = [(leaned, forms.get(leaned)) for leaned in leans]
-    return (name, length, reach, text[place:place + reach], place + reach > len(text), rules)
+    kept = made_alone(book, name, text, place)
+    return paper_of(dict(book), text, kept, name, place)
 
 
 def is_paper_rule(thing):

@@ -103,14 +103,16 @@ def found(asking, kept):
 
 def make(rules, text, kept, name, place):
     # Each is kept as (length, reach, leans) behind all that it asks; leans as a dict of True, for these are
-    # joined again and again.
+    # joined again and again. Told are those that were not kept before, in the order in which they are done.
+    new = []
     if (name, place) in kept:
-        return
+        return new
     under_way = [begun(rules, text, name, place)]
     while len(under_way) > 0:
         asking = under_way[-1]
         if asking.done:
             kept[(asking.name, asking.place)] = found(asking, kept)
+            new.append((asking.name, asking.place))
             under_way.pop()
             continue
         wanted = asking.wanted()
@@ -118,6 +120,7 @@ def make(rules, text, kept, name, place):
             asking.take(kept[wanted][0])
         else:
             under_way.append(begun(rules, text, wanted[0], wanted[1]))
+    return new
 
 
 def asked_anew(rules, text, kept, name, place):
@@ -133,6 +136,18 @@ def asked_of(rules, text, kept, name, place):
     for step in asked_anew(rules, text, kept, name, place).steps:
         asked[step] = True
     return list(asked)
+
+
+def all_below(rules, text, kept, name, place):
+    below = {(name, place): True}
+    left = [(name, place)]
+    while len(left) > 0:
+        own, start = left.pop()
+        for step in asked_of(rules, text, kept, own, start):
+            if step not in below:
+                below[step] = True
+                left.append(step)
+    return below
 
 
 def tree_of(rules, text, kept, name, place):
@@ -158,11 +173,15 @@ def is_place(text, thing):
     return is_whole(thing) and 0 <= thing <= len(text)
 
 
-def refuse_wrong(book, name, text, place):
+def refuse_wrong_book(book):
     if not is_book(book):
         raise NoBook("this is no book")
     if loop(book) is not None:
         raise Loops("the book loops")
+
+
+def refuse_wrong(book, name, text, place):
+    refuse_wrong_book(book)
     if not is_name(name):
         raise NoName("this is no name")
     if not is_text(text):
@@ -171,18 +190,19 @@ def refuse_wrong(book, name, text, place):
         raise NoPlace("this is no place of the text")
 
 
-def reading(book, name, text, place):
+def made_alone(book, name, text, place):
     refuse_wrong(book, name, text, place)
-    rules = dict(book)
     kept = {}
-    make(rules, text, kept, name, place)
+    make(dict(book), text, kept, name, place)
+    return kept
+
+
+def reading(book, name, text, place):
+    kept = made_alone(book, name, text, place)
     length, reach, leans = kept[(name, place)]
-    return (length, reach, asked_of(rules, text, kept, name, place), sorted(leans))
+    return (length, reach, asked_of(dict(book), text, kept, name, place), sorted(leans))
 
 
 def tree(book, name, text, place):
-    refuse_wrong(book, name, text, place)
-    rules = dict(book)
-    kept = {}
-    make(rules, text, kept, name, place)
-    return tree_of(rules, text, kept, name, place)
+    kept = made_alone(book, name, text, place)
+    return tree_of(dict(book), text, kept, name, place)

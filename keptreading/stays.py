@@ -4,28 +4,34 @@ from keptreading.forms import is_name
 from keptreading.readings import is_place, is_whole, make
 
 
-def moved(row, more):
-    number, name, place, length, reach, leans = row
-    return (number, name, place + more, length, reach, list(leans))
+def placed(row, place):
+    # The list is a new one, for what is told is the asker's own.
+    return (row[0], row[1], place, row[3], row[4], list(row[5]))
 
 
 def by_number(rows):
     return sorted(rows, key=lambda row: row[0])
 
 
+def place_behind_put(place, reach, a, b, many):
+    if place + reach <= a:
+        return place
+    if place >= b:
+        return place + many - (b - a)
+    return None
+
+
 def behind_put(rows, a, b, many):
     stay = []
     for row in rows:
-        place = row[2]
-        if place + row[4] <= a:
-            stay.append(moved(row, 0))
-        elif place >= b:
-            stay.append(moved(row, many - (b - a)))
+        place = place_behind_put(row[2], row[4], a, b, many)
+        if place is not None:
+            stay.append(placed(row, place))
     return by_number(stay)
 
 
 def behind_rule(rows, name):
-    return by_number([moved(row, 0) for row in rows if name not in row[5]])
+    return by_number([placed(row, row[2]) for row in rows if name not in row[5]])
 
 
 def is_row(text, thing):

@@ -300,3 +300,78 @@ def check_refusals(case, asked, errors):
         with case.assertRaises(errors.NoPlace):
             asked(SOUND, "lacking", text, -1)
         asked(SOUND, "b", text, len(text))
+
+
+class Model:
+    # A reader that keeps nothing but numbers, by (name, place), and works out all else from nothing.
+    def __init__(self, book=(), text="", numbers=()):
+        self.now(text, list(book))
+        self.numbers = dict(numbers)
+        self.makings = 0
+        self.following = max(self.numbers.values(), default=-1) + 1
+        self.past = []
+
+    def now(self, text, book):
+        self.text, self.book, self.truth = text, book, Truth(book, text)
+
+    def ask(self, name, place=0):
+        if (name, place) not in self.numbers:
+            for step in self.truth.whole(name, place)[1]:
+                self.ask(*step)
+            self.numbers[(name, place)] = self.following
+            self.following += 1
+            self.makings += 1
+
+    def rows(self):
+        return sorted(self.truth.row(number, *one) for one, number in self.numbers.items())
+
+    def touch_signs(self, a, b, many):
+        rows, self.numbers = self.rows(), {}
+        for number, name, place, length, reach, leans in rows:
+            if place >= b or place + reach - 1 < a:
+                self.numbers[(name, place + many - (b - a) if place >= b else place)] = number
+
+    def touch_rule(self, name):
+        self.numbers = {(row[1], row[2]): row[0] for row in self.rows() if name not in row[5]}
+
+    def put(self, a, b, signs):
+        self.past.append((self.text, self.book, (a, a + len(signs), b - a)))
+        self.touch_signs(a, b, len(signs))
+        self.now(self.text[:a] + signs + self.text[b:], self.book)
+
+    def change(self, name, rules):
+        self.past.append((self.text, self.book, name))
+        self.touch_rule(name)
+        self.now(self.text, sorted([rule for rule in self.book if rule[0] != name] + rules))
+
+    def undo(self):
+        text, book, back = self.past.pop()
+        if isinstance(back, str):
+            self.touch_rule(back)
+        else:
+            self.touch_signs(*back)
+        self.now(text, book)
+
+    def sweep(self, name, place=0):
+        self.ask(name, place)
+        below = self.truth.below(name, place)
+        went = [one for one in self.numbers if one not in below]
+        self.numbers = {one: self.numbers[one] for one in below}
+        return len(went)
+
+
+# All that shows how a reader stands, but for what there is to undo.
+def state(reader):
+    return (reader.text(), reader.book(), reader.kept(), reader.made())
+
+
+def state_of_model(model):
+    return (model.text, model.book, model.rows(), model.makings)
+
+
+# Tells a new reader a book and a text by deeds, the rules in the order of the given dice.
+def told_by_deeds(reader, book, text, dice):
+    for name, form in dice.sample(book, len(book)):
+        reader.rule(name, form)
+    reader.put(0, 0, text)
+    return reader
